@@ -1,0 +1,1 @@
+"""Slotgaps: errands whose steps have open times and waits."""

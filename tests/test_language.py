@@ -1,0 +1,92 @@
+"""The rules for the package's files that a short test can see, and the interface."""
+
+import ast
+import builtins
+import importlib
+import inspect
+import pathlib
+import unittest
+
+FOLDER = pathlib.Path(__file__).resolve().parent.parent / "slotgaps"
+LIBRARY = {"heapq", "math", "itertools", "collections"}
+BARRED = (ast.AsyncFunctionDef, ast.Await, ast.Div, ast.Import)
+BUILTINS = set("""
+    len range enumerate zip min max sum abs sorted reversed int str bool bytes list tuple dict set frozenset
+    isinstance ord chr repr any all divmod pow getattr hasattr setattr iter next map type super property
+    staticmethod classmethod Exception ValueError TypeError KeyError IndexError LookupError ZeroDivisionError
+    ArithmeticError OverflowError RuntimeError NotImplementedError AttributeError StopIteration NotImplemented
+    True False None""".split())
+
+INTERFACE = {
+    "errors": {
+        "InvalidName": ["name"], "NameInUse": ["name"], "DiaryFull": ["limit"], "InvalidStep": ["step"],
+        "NoPlan": ["message"]},
+    "patterns": {
+        "is_pattern": ["value"], "contains": ["pattern", "time"], "smallest": ["pattern"],
+        "union": ["pattern", "other"], "intersection": ["pattern", "other"], "shifted": ["pattern", "by"],
+        "next_time": ["pattern", "time"], "last_time": ["pattern", "time"]},
+    "errands": {"is_errand": ["value"], "wait_holds": ["wait", "times"], "mirrored": ["errand"]},
+}
+
+
+def sources():
+    return {path: path.read_text(encoding="utf-8") for path in sorted(FOLDER.glob("*.py"))}
+
+
+class Files(unittest.TestCase):
+    def test_python_files_alone(self):
+        for path in FOLDER.iterdir():
+            if path.name != "__pycache__":
+                self.assertEqual((path.suffix, path.name.lower(), path.is_file()), (".py", path.name, True))
+
+    def test_sizes(self):
+        for path, text in sources().items():
+            self.assertLessEqual(len(text.splitlines()), 399, path)
+            for line in text.splitlines():
+                self.assertLessEqual(len(line), 120, path)
+            for node in ast.walk(ast.parse(text)):
+                if isinstance(node, ast.FunctionDef):
+                    self.assertLessEqual(node.end_lineno - node.lineno + 1, 40, (path, node.name))
+
+    def test_characters(self):
+        for path, text in sources().items():
+            self.assertTrue(all(" " <= sign <= "~" or sign == "\n" for sign in text), path)
+
+
+class Code(unittest.TestCase):
+    def test_module_level(self):
+        for path, text in sources().items():
+            for at, node in enumerate(ast.parse(text).body):
+                docstring = at == 0 and isinstance(node, ast.Expr)
+                kinds = (ast.ImportFrom, ast.FunctionDef, ast.ClassDef, ast.Assign)
+                self.assertTrue(docstring or isinstance(node, kinds), (path, node.lineno))
+
+    def test_imports(self):
+        for path, text in sources().items():
+            for node in ast.walk(ast.parse(text)):
+                if isinstance(node, ast.ImportFrom):
+                    self.assertEqual(node.level, 0, path)
+                    self.assertTrue(node.module in LIBRARY or node.module.startswith("slotgaps."), path)
+
+    def test_statements(self):
+        for path, text in sources().items():
+            for node in ast.walk(ast.parse(text)):
+                self.assertNotIsInstance(node, BARRED, path)
+                if isinstance(node, ast.Constant):
+                    self.assertNotIsInstance(node.value, (float, complex), path)
+                if isinstance(node, ast.Name) and hasattr(builtins, node.id):
+                    self.assertIn(node.id, BUILTINS, (path, node.lineno))
+
+
+class Interface(unittest.TestCase):
+    def test_names_and_arguments(self):
+        for name, members in INTERFACE.items():
+            module = importlib.import_module("slotgaps." + name)
+            for member, arguments in members.items():
+                found = getattr(module, member)
+                self.assertEqual(list(inspect.signature(found).parameters), arguments, member)
+                self.assertEqual(found.__module__, "slotgaps." + name, member)
+
+
+if __name__ == "__main__":
+    unittest.main()
