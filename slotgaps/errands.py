@@ -1,7 +1,7 @@
 """Errands: steps with patterns, and waits between them."""
 
 from slotgaps.patterns import is_pattern, smallest
-from slotgaps.values import is_integer, is_tuple
+from slotgaps.values import is_index, is_integer, is_tuple
 
 MOST_STEPS = 6
 MOST_WAITS = 8
@@ -24,12 +24,7 @@ def is_wait(value, steps):
     if not is_tuple(value, 4, 4):
         return False
     i, j, low, high = value
-    return is_step(i, steps) and is_step(j, steps) and i != j and are_limits(low, high)
-
-
-def is_step(value, steps):
-    """Return whether a value of any kind is the index of one of so many steps."""
-    return is_integer(value) and 0 <= value < steps
+    return is_index(i, steps) and is_index(j, steps) and i != j and are_limits(low, high)
 
 
 def are_limits(low, high):

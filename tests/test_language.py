@@ -26,6 +26,13 @@ INTERFACE = {
         "union": ["pattern", "other"], "intersection": ["pattern", "other"], "shifted": ["pattern", "by"],
         "next_time": ["pattern", "time"], "last_time": ["pattern", "time"]},
     "errands": {"is_errand": ["value"], "wait_holds": ["wait", "times"], "mirrored": ["errand"]},
+    "plans": {"is_plan": ["errand", "value"], "find_plan": ["errand", "times"]},
+    "ends": {
+        "earliest": ["errand", "start"], "latest": ["errand", "start"],
+        "earliest_from": ["errand", "i", "time"], "latest_by": ["errand", "i", "time"],
+        "windows": ["errand", "times"]},
+    "refutations": {
+        "is_refutation": ["errand", "times", "value"], "find_refutation": ["errand", "times"]},
 }
 
 
