@@ -227,7 +227,7 @@ class EachLine(unittest.TestCase):
                     self.assertIs(self.is_right(line, BEFORE), wanted, line)
 
     def test_other_words(self):
-        for word in ('', 'Given', 'given ', 'OPEN', 'opens', 'wait', 'low high', 'none', b'open', None, 0, True, (), []):
+        for word in ('', 'Given', 'given ', 'OPEN', 'opens', 'wait', 'low high', 'none', b'open', None, 0, ()):
             for numbers in ((), (0,), (1,), (0, 0), (0, 1)):
                 for step in (0, 1):
                     self.assertIs(self.is_right((step, -500, (word,) + numbers), BEFORE), False)
