@@ -7,20 +7,12 @@ import unittest
 from slotgaps.ends import earliest, earliest_from, latest, latest_by, windows
 from slotgaps.errands import mirrored
 from slotgaps.plans import find_plan, is_plan
-from tests.samples import POST, VISIT
+from tests.samples import ANY, MUCH, NO_PLANS, POST, VISIT
 from tests.search import (
     earliest_of, latest_of, moved, plans_between, plans_from, plans_with, small_errands)
 
-ANY = (1, (0,))
-NEVER = (60, ())
-MUCH = (60 * 10 ** 58, -60 * 10 ** 58, 60 * 10 ** 3990, -60 * 10 ** 3990)
 ROOMY = (((60, (0,)), (10, (0,))), ((0, 1, 5, 40),))
 ERRANDS = [POST, VISIT, ROOMY] + small_errands(8, 1) + small_errands(12, 2) + small_errands(14, 3)
-NO_PLANS = [
-    ((NEVER,), ()), ((ANY, NEVER), ()), ((NEVER, ANY), ((0, 1, 0, 5),)), ((NEVER, NEVER), ()),
-    (((10, (0,)), (10, (5,))), ((0, 1, 6, 14),)), ((ANY, ANY), ((0, 1, 3, None), (0, 1, None, 2))),
-    ((ANY, ANY, ANY), ((1, 2, 1, None), (2, 1, 0, None))), ((ANY, ANY, ANY), ((0, 1, 100, None), (1, 2, 100, None))),
-    (((60, (0,)), (60, (0,))), ((0, 1, 61, None), (0, 1, None, 119)))]
 
 
 def mirrored_times(plan):

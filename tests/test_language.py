@@ -33,6 +33,11 @@ INTERFACE = {
         "windows": ["errand", "times"]},
     "refutations": {
         "is_refutation": ["errand", "times", "value"], "find_refutation": ["errand", "times"]},
+    "starts": {"good_starts": ["errand"], "next_good": ["errand", "time"], "worst_wait": ["errand"]},
+    "durations": {
+        "shortest": ["errand", "i", "j"], "longest": ["errand", "i", "j"],
+        "find_duration": ["errand", "i", "j", "duration"]},
+    "greedy": {"walk": ["errand", "start"], "find_failure": ["errand"]},
 }
 
 

@@ -8,18 +8,12 @@ from slotgaps.ends import windows
 from slotgaps.plans import find_plan, is_plan
 from slotgaps.refutations import find_refutation
 from tests.samples import HUGE, POST, VISIT, nested, other_values
-from tests.search import earliest_of, holds, moved, plans_from, plans_with, small_errands
+from tests.search import earliest_of, is_plan_by_words, moved, plans_from, plans_with, small_errands
 
 ANY = (1, (0,))
 NEVER = (1, ())
 LONE = (((10, (0,)),), ())
 FREE = ((ANY, ANY, ANY), ())
-
-
-def is_plan_by_words(errand, times):
-    patterns, waits = errand
-    return (all(any(t % p[0] == u for u in p[1]) for p, t in zip(patterns, times))
-            and all(holds(w, times) for w in waits) and all(abs(t - times[0]) <= 120 for t in times))
 
 
 class Examples(unittest.TestCase):
