@@ -1,5 +1,6 @@
 """Plans by search, in the words of points 5 to 8, and small errands to search."""
 
+import itertools
 import random
 
 from tests.samples import DIVISORS, contained
@@ -147,3 +148,16 @@ def dense_errands(many, seed=1):
 def plans_of_an_hour(errand):
     """All plans with a start from 0 to 59: the others are these, moved by whole hours."""
     return plans_between(errand, 0, 59)
+
+
+def sets_of_waits(errand):
+    """All sets of waits as tuples, the smaller ones first, those of one size in ascending order."""
+    many = len(errand[1])
+    return [chosen for size in range(many + 1) for chosen in itertools.combinations(range(many), size)]
+
+
+def held_together(errand, start=None):
+    """The sets of waits that hold together when the errand is done in some way, from a start or any."""
+    bare = (errand[0], ())
+    plans = plans_of_an_hour(bare) if start is None else plans_from(bare, start)
+    return {frozenset(w for w, wait in enumerate(errand[1]) if holds(wait, plan)) for plan in plans}

@@ -38,7 +38,17 @@ INTERFACE = {
         "shortest": ["errand", "i", "j"], "longest": ["errand", "i", "j"],
         "find_duration": ["errand", "i", "j", "duration"]},
     "greedy": {"walk": ["errand", "start"], "find_failure": ["errand"]},
+    "needless": {"without": ["errand", "drops"], "find_breach": ["errand", "w"], "trimmed": ["errand"]},
+    "blame": {"blame": ["errand", "start"], "find_drops": ["errand"]},
+    "comparing": {
+        "find_difference": ["errand", "other"], "are_equivalent": ["errand", "other"],
+        "used_times": ["errand", "step"]},
+    "diary": {"Diary": ["errand"]},
 }
+
+METHODS = {
+    "begin": ["name", "start"], "do": ["name", "step", "time"], "cancel": ["name"], "undo": [], "names": [],
+    "done": ["name"], "plan": ["name"], "windows": ["name"], "due": ["time"], "__eq__": ["other"]}
 
 
 def sources():
@@ -98,6 +108,16 @@ class Interface(unittest.TestCase):
                 found = getattr(module, member)
                 self.assertEqual(list(inspect.signature(found).parameters), arguments, member)
                 self.assertEqual(found.__module__, "slotgaps." + name, member)
+
+    def test_methods(self):
+        diary = importlib.import_module("slotgaps.diary")
+        for method, arguments in METHODS.items():
+            found = vars(diary.Diary)[method]
+            self.assertEqual(list(inspect.signature(found).parameters), ["self"] + arguments, method)
+
+    def test_each_module_is_listed(self):
+        helpers = {"__init__", "climbs", "cycles", "values"}
+        self.assertEqual({path.stem for path in sources()} - helpers, set(INTERFACE))
 
 
 if __name__ == "__main__":
