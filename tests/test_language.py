@@ -9,7 +9,9 @@ import unittest
 
 FOLDER = pathlib.Path(__file__).resolve().parent.parent / "slotgaps"
 LIBRARY = {"heapq", "math", "itertools", "collections"}
-BARRED = (ast.AsyncFunctionDef, ast.Await, ast.Div, ast.Import)
+BARRED = (
+    ast.AsyncFunctionDef, ast.Await, ast.Div, ast.GeneratorExp, ast.Global, ast.Import, ast.Try, ast.Yield,
+    ast.YieldFrom)
 BUILTINS = set("""
     len range enumerate zip min max sum abs sorted reversed int str bool bytes list tuple dict set frozenset
     isinstance ord chr repr any all divmod pow getattr hasattr setattr iter next map type super property
@@ -55,6 +57,20 @@ def sources():
     return {path: path.read_text(encoding="utf-8") for path in sorted(FOLDER.glob("*.py"))}
 
 
+def parsed(module):
+    return ast.parse((FOLDER / (module.removeprefix("slotgaps.") + ".py")).read_text(encoding="utf-8"))
+
+
+def imported(tree):
+    return [(node.module, name.name) for node in tree.body if isinstance(node, ast.ImportFrom) for name in node.names]
+
+
+def defined(tree):
+    """The names that a file binds, but for its imports."""
+    names = [node.name for node in tree.body if isinstance(node, (ast.FunctionDef, ast.ClassDef))]
+    return names + [target.id for node in tree.body if isinstance(node, ast.Assign) for target in node.targets]
+
+
 class Files(unittest.TestCase):
     def test_python_files_alone(self):
         for path in FOLDER.iterdir():
@@ -98,6 +114,49 @@ class Code(unittest.TestCase):
                     self.assertNotIsInstance(node.value, (float, complex), path)
                 if isinstance(node, ast.Name) and hasattr(builtins, node.id):
                     self.assertIn(node.id, BUILTINS, (path, node.lineno))
+
+
+class Names(unittest.TestCase):
+    def test_each_import_is_from_the_file_that_defines_the_name(self):
+        for path, text in sources().items():
+            tree = ast.parse(text)
+            used = {node.id for node in ast.walk(tree) if isinstance(node, ast.Name)}
+            for module, name in imported(tree):
+                self.assertIn(name, used, path)
+                if module not in LIBRARY:
+                    self.assertIn(name, defined(parsed(module)), path)
+
+    def test_no_file_imports_itself_through_others(self):
+        modules = {"slotgaps." + path.stem: ast.parse(text) for path, text in sources().items()}
+        needs = {module: {name for name, _ in imported(tree) if name in modules} for module, tree in modules.items()}
+        while needs:
+            free = [module for module in needs if not needs[module]]
+            self.assertTrue(free, needs)
+            needs = {module: needs[module] - set(free) for module in needs if module not in free}
+
+    def test_one_meaning_for_each_name(self):
+        for path, text in sources().items():
+            tree = ast.parse(text)
+            outer = defined(tree) + [name for _, name in imported(tree)]
+            self.assertEqual(len(outer), len(set(outer)), path)
+            inner = {node.arg for node in ast.walk(tree) if isinstance(node, ast.arg)}
+            for node in ast.walk(tree):
+                if isinstance(node, ast.FunctionDef):
+                    inner |= {name.id for name in ast.walk(node)
+                              if isinstance(name, ast.Name) and isinstance(name.ctx, ast.Store)}
+            self.assertEqual(inner & set(outer), set(), path)
+            for name in inner | set(outer):
+                self.assertFalse(hasattr(builtins, name), (path, name))
+
+    def test_methods_and_attributes_of_a_class(self):
+        for path, text in sources().items():
+            for node in ast.walk(ast.parse(text)):
+                if isinstance(node, ast.ClassDef):
+                    methods = [part.name for part in node.body if isinstance(part, ast.FunctionDef)]
+                    stored = {part.attr for part in ast.walk(node)
+                              if isinstance(part, ast.Attribute) and isinstance(part.ctx, ast.Store)}
+                    self.assertEqual(len(methods), len(set(methods)), path)
+                    self.assertEqual(stored & set(methods), set(), path)
 
 
 class Interface(unittest.TestCase):
